@@ -1,0 +1,102 @@
+"""The examples of the interface, as they stand there, and the names of its parameters."""
+
+import doctest
+import unittest
+from importlib import import_module
+from inspect import signature
+
+# Each function with the names of its parameters, by its file, and a call with what it returns.
+CALLS = {
+    "basics": [
+        ("is_integer", ["value"], [5], True),
+        ("is_count", ["value"], [-5], False),
+    ],
+    "ratios": [
+        ("is_ratio", ["value"], [(1, 2)], True),
+        ("ratio_made", ["number", "under"], [6, -4], (-3, 2)),
+        ("ratio_plus", ["ratio", "other"], [(1, 2), (1, 3)], (5, 6)),
+        ("ratio_minus", ["ratio", "other"], [(1, 2), (1, 3)], (1, 6)),
+        ("ratio_times", ["ratio", "other"], [(2, 3), (3, 4)], (1, 2)),
+        ("ratio_over", ["ratio", "other"], [(1, 2), (-3, 1)], (-1, 6)),
+        ("ratio_compared", ["ratio", "other"], [(1, 2), (1, 3)], 1),
+        ("ratio_floor", ["ratio"], [(-7, 2)], -4),
+    ],
+    "polynomials": [
+        ("is_polynomial", ["value"], [(1, 2)], True),
+        ("poly_plus", ["polynomial", "other"], [(1, 2), (3,)], (4, 2)),
+        ("poly_minus", ["polynomial", "other"], [(1, 2), (3,)], (-2, 2)),
+        ("poly_times", ["polynomial", "other"], [(1, 2), (3,)], (3, 6)),
+        ("poly_worth", ["polynomial", "ratio"], [(1, 2), (1, 4)], (3, 2)),
+        ("poly_slope", ["polynomial"], [(1, 2, 3)], (2, 6)),
+        ("poly_divided", ["polynomial", "other"], [(1, 2, 3), (0, 1)], ((2, 3), (1,))),
+        ("poly_bare", ["polynomial"], [(2, -4)], (-1, 2)),
+        ("poly_common", ["polynomial", "other"], [(-1, 0, 1), (1, 1)], (1, 1)),
+        ("poly_single", ["polynomial"], [(1, 2, 1)], (1, 1)),
+    ],
+    "signs": [
+        ("sign_changes", ["polynomial"], [(1, -3, 1)], 2),
+    ],
+    "realroots": [
+        ("real_count", ["polynomial"], [(1, -3, 1)], 2),
+        ("count_between", ["polynomial", "low", "high"], [(1, -3, 1), (0, 1), (1, 1)], 1),
+        ("count_above", ["polynomial", "ratio"], [(1, -3, 1), (1, 1)], 1),
+        ("root_floor", ["polynomial", "position", "many"], [(1, -3, 1), 1, 3], 3),
+    ],
+    "rings": [
+        ("ring_count", ["polynomial", "ratio"], [(1, -3, 1), (1, 1)], (1, 0, 1)),
+        ("size_floor", ["polynomial", "many"], [(1, -3, 1), 1], 5),
+    ],
+    "residues": [
+        ("residue_degrees", ["polynomial", "many"], [(-1, -1, 0, 1), 5], [1, 2]),
+    ],
+    "parts": [
+        ("parts_of", ["polynomial"], [(1, 2, 1)], [((1, 1), 2)]),
+        ("is_least", ["polynomial"], [(1, 2, 1)], False),
+    ],
+    "numbers": [
+        ("is_number", ["value"], [("number", (1, -3, 1), 1)], True),
+    ],
+    "mixes": [
+        ("is_mix", ["number", "value"], [("number", (-1, -1, 1), 0), ((1, 0), 1)], True),
+        ("mix_made", ["number", "row", "under"], [("number", (-1, -1, 1), 0), [0, -2], -4], ((0, 1), 2)),
+        ("mix_plus", ["number", "mix", "other"],
+         [("number", (-1, -1, 1), 0), ((0, 1), 1), ((1, 0), 2)], ((1, 2), 2)),
+        ("mix_minus", ["number", "mix", "other"],
+         [("number", (-1, -1, 1), 0), ((0, 1), 1), ((1, 0), 2)], ((-1, 2), 2)),
+        ("mix_times", ["number", "mix", "other"],
+         [("number", (-1, -1, 1), 0), ((0, 1), 1), ((0, 1), 1)], ((1, 1), 1)),
+        ("mix_over", ["number", "mix", "other"],
+         [("number", (-1, -1, 1), 0), ((1, 0), 1), ((0, 1), 1)], ((-1, 1), 1)),
+        ("power_mix", ["number", "many"], [("number", (-1, -1, 1), 0), 10], ((34, 55), 1)),
+    ],
+}
+
+
+def load_tests(loader, tests, pattern):
+    """The examples among the tests."""
+    tests.addTests(doctest.DocFileSuite("interface_examples.txt"))
+    return tests
+
+
+class Names(unittest.TestCase):
+    def test_each_function_is_defined_in_its_file(self):
+        for file, calls in CALLS.items():
+            module = import_module("whichpaces." + file)
+            for name, parameters, _, _ in calls:
+                function = getattr(module, name)
+                self.assertEqual(function.__module__, module.__name__)
+                self.assertEqual(list(signature(function).parameters), parameters)
+
+    def test_arguments_by_position_and_by_name(self):
+        for file, calls in CALLS.items():
+            module = import_module("whichpaces." + file)
+            for name, parameters, values, expected in calls:
+                function = getattr(module, name)
+                by_name = dict(list(zip(parameters, values))[::-1])
+                self.assertEqual(function(*values), expected, name)
+                self.assertEqual(function(**by_name), expected, name)
+                self.assertIs(type(function(**by_name)), type(expected), name)
+
+
+if __name__ == "__main__":
+    unittest.main()

@@ -1,0 +1,1 @@
+"""Which numbers are the paces of machines, each answer with a paper."""
