@@ -81,21 +81,8 @@ def stretched(row, number, under):
     return tuple(total)
 
 
-def divided_by_monic(row, other):
-    """The quotient and the rest by a monic row."""
-    rest = list(row)
-    quotient = []
-    while len(rest) >= len(other):
-        top = rest.pop()
-        quotient.append(top)
-        start = len(rest) - len(other) + 1
-        for place in range(len(other) - 1):
-            rest[start + place] -= top * other[place]
-    return tuple(quotient[::-1]), trimmed(rest)
-
-
-def exactly_divided(row, other):
-    """The quotient by a row that is known to divide, with whole numbers."""
+def divided(row, other):
+    """The quotient and the rest by another row, whose head divides each head on the way."""
     rest = list(row)
     quotient = []
     while len(rest) >= len(other):
@@ -104,7 +91,7 @@ def exactly_divided(row, other):
         start = len(rest) - len(other) + 1
         for place in range(len(other) - 1):
             rest[start + place] -= top * other[place]
-    return tuple(quotient[::-1])
+    return tuple(quotient[::-1]), trimmed(rest)
 
 
 def content(row):
@@ -167,4 +154,5 @@ def single(row):
     if not row:
         return ()
     whole = bare(row)
-    return exactly_divided(whole, common_part(whole, slope(whole)))
+    quotient, _ = divided(whole, common_part(whole, slope(whole)))
+    return quotient

@@ -4,7 +4,7 @@ from itertools import combinations
 from math import isqrt
 
 from whichpaces.berlekamp import parts_modulo
-from whichpaces.coefficients import divided_by_monic, multiplied, single
+from whichpaces.coefficients import divided, multiplied, single
 from whichpaces.lifting import centred, lifted_parts
 from whichpaces.modular import lowered
 from whichpaces.partdegrees import is_shown_least, told_by_primes
@@ -34,7 +34,7 @@ def chosen_parts(whole, parts, many, sums, modulus):
     for chosen in combinations(range(len(parts)), many):
         degree = sum([len(parts[place]) - 1 for place in chosen])
         if (sums >> degree) & 1:
-            _, rest = divided_by_monic(whole, product_of(parts, chosen, modulus))
+            _, rest = divided(whole, product_of(parts, chosen, modulus))
             if not rest:
                 return chosen
     return None
@@ -50,7 +50,7 @@ def put_together(whole, parts, sums, modulus):
             many += 1
         else:
             found.append(product_of(parts, chosen, modulus))
-            whole, _ = divided_by_monic(whole, found[-1])
+            whole, _ = divided(whole, found[-1])
             parts = [part for place, part in enumerate(parts) if place not in chosen]
     return found + [whole]
 
@@ -68,10 +68,10 @@ def factors_of(whole):
 def times_divided(whole, part):
     """How often the monic part divides the whole."""
     many = 0
-    quotient, rest = divided_by_monic(whole, part)
+    quotient, rest = divided(whole, part)
     while not rest:
         many += 1
-        quotient, rest = divided_by_monic(quotient, part)
+        quotient, rest = divided(quotient, part)
     return many
 
 

@@ -6,7 +6,7 @@ of the least polynomial tells. Nothing is refused here.
 
 from math import gcd
 
-from whichpaces.coefficients import content, divided_by_monic, multiplied, trimmed
+from whichpaces.coefficients import content, divided, multiplied, trimmed
 
 
 def mix_of(row, under):
@@ -32,7 +32,7 @@ def led_once(least, row):
 def row_product(least, row, other):
     """The row of the product of two rows."""
     product = multiplied(trimmed(row), trimmed(other))
-    _, rest = divided_by_monic(product, least)
+    _, rest = divided(product, least)
     return filled(least, rest)
 
 
@@ -62,11 +62,12 @@ def solved(rows):
     There is just one answer. Each division leaves no rest.
     """
     last = 1
-    for place in range(len(rows)):
+    many = len(rows)
+    for place in range(many):
         rows = with_pivot_ahead(rows, place)
         lead = rows[place]
         pivot = lead[place]
-        for at in range(len(rows)):
+        for at in range(many):
             if at != place:
                 factor = rows[at][place]
                 rows[at] = [(pivot * number - factor * top) // last for number, top in zip(rows[at], lead)]

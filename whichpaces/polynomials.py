@@ -1,7 +1,7 @@
 """POLYNOMIALS: tuples of at most 13 INTEGERS, from the power 0 on."""
 
 from whichpaces.basics import is_integer
-from whichpaces.coefficients import added, bare, common_part, divided_by_monic, multiplied
+from whichpaces.coefficients import added, bare, common_part, divided, multiplied
 from whichpaces.coefficients import negated, single, slope, worth_times
 from whichpaces.errors import InvalidPolynomial, NotMonic, TooMany
 from whichpaces.ratios import check_ratio, lowest
@@ -78,7 +78,7 @@ def poly_divided(polynomial, other):
     check_polynomial(polynomial)
     check_polynomial(other)
     check_monic(other)
-    return divided_by_monic(polynomial, other)
+    return divided(polynomial, other)
 
 
 def poly_bare(polynomial):

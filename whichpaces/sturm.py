@@ -46,7 +46,8 @@ def is_root(rows, number, under):
 
 def roots_from(rows, number, under):
     """How many unlike real roots are at number / under or above it."""
-    return roots_above(rows, number, under) + is_root(rows, number, under)
+    many = roots_above(rows, number, under)
+    return many + 1 if is_root(rows, number, under) else many
 
 
 def root_bound(row):
