@@ -4,8 +4,8 @@ import copy
 from fractions import Fraction
 from math import gcd
 
-from whichpaces.errors import InvalidInteger, InvalidMany, InvalidMix, InvalidNumber
-from whichpaces.errors import InvalidPolynomial, InvalidPosition, InvalidRatio, InvalidRow
+from whichpaces.errors import InvalidInteger, InvalidMachine, InvalidMany, InvalidMix, InvalidNumber
+from whichpaces.errors import InvalidPlace, InvalidPolynomial, InvalidPosition, InvalidRatio, InvalidRow, InvalidTable
 
 NO_INTEGERS = [True, False, None, "3", "", b"3", (3,), [3], {}, {3: 3}, int, object()]
 NO_COUNTS = NO_INTEGERS + [-1, -10 ** 40]
@@ -33,16 +33,49 @@ NO_NUMBERS = [
     ("number", (1, 0, -10, 0, 1), 2), ("number", (4, 0, -5, 0, 1), 0), ("number", "-1 1", 0), ("number", None, 0),
     ("number", 5, 0), ("number", (-1, None), 0), ("number", (-1, 1, 0), 0),
 ]
+NO_ROADS = [
+    True, None, 5, "roads", {}, object(), [], [(0, 0, 1, 1)], ((),), ((0, 0, 1),), ((0, 0, 1, 1, 1),), (0, 0, 1, 1),
+    ([0, 0, 1, 1],), ("0011",), (None,), (5,), ((0, 0, 1, 1), None), ((0, 0, 1, 1), (0, 0, 1, 1)),
+    ((0, 0, 1, 1), (0, 0, 1, 2)), ((0, 0, 2, 1), (0, 0, 1, 1)), ((0, 1, 1, 1), (0, 0, 2, 1)),
+    ((1, 0, 1, 1), (0, 1, 1, 1)), ((0, 0, 1, 1), (0, 1, 1, 1), (0, 0, 2, 1)), ((2, 0, 1, 1),), ((0, 2, 1, 1),),
+    ((-1, 0, 1, 1),), ((0, -1, 1, 1),), ((0, 0, 0, 1),), ((0, 0, -1, 1),), ((0, 0, 401, 1),), ((0, 0, 1, 0),),
+    ((0, 0, 1, -1),), ((0, 0, 1, (10 ** 50) ** 8),), ((False, 0, 1, 1),), ((0, False, 1, 1),), ((0, 0, True, 1),),
+    ((0, 0, 1, True),), ((0, True, 1, 1),), ((None, 0, 1, 1),), ((0, "0", 1, 1),), ((0, 0, "1", 1),),
+    ((0, 0, 1, None),), ((0, 0, (1,), 1),), ((0, 0, 1, [1]),), ((0, 0, 1, 1), (0, 1, 1, 0)),
+    tuple([(0, 0, length, 1) for length in range(1, 62)]),
+]
+NO_MACHINES = [("machine", 2, roads) for roads in NO_ROADS] + [
+    True, False, None, 3, 0, "machine", b"machine", (), [], {}, object(), ("machine",), ("machine", 1),
+    ["machine", 1, ((0, 0, 1, 1),)], ("machine", 1, ((0, 0, 1, 1),), 0), ("Machine", 1, ((0, 0, 1, 1),)),
+    (b"machine", 1, ((0, 0, 1, 1),)), (None, 1, ()), (("machine",), 1, ()), (1, ((0, 0, 1, 1),)), ("table", 1, ()),
+    ("machine", 0, ()), ("machine", -1, ()), ("machine", 13, ()), ("machine", True, ()), ("machine", None, ()),
+    ("machine", "1", ()), ("machine", (1,), ()), ("machine", 1, ((0, 1, 1, 1),)), ("machine", 1, ((1, 0, 1, 1),)),
+    ("machine", 12, ((12, 0, 1, 1),)), ("machine", 10 ** 30, ()), ((1,),), ("number", (-1, 1), 0),
+]
+NO_TABLES = [
+    True, False, None, 3, 0, "table", "", b"1", (), [], {}, object(), [[1]], [(1,)], ([1],), ((1, 2),), ((1,), (2,)),
+    ((),), ((1, 1), (1,)), ((1,), (1, 1)), ((1, 1), [1, 1]), ((1, 1), (1, -1)), ((-1,),), ((True,),), ((False,),),
+    ((1, 1), (1, True)), ((None,),), (("1",),), (((1,),),), (([],),), ((10 ** 6 + 1,),), ((0, 0), (0, 10 ** 30)),
+    (1,), (1, 1), ("1",), ("12", "34"), ({1: 1},), ((1, 1), None), ((0,) * 13,) * 13, ((0,) * 12,) * 13,
+    ((0,) * 13,) * 12, ((0,) * 12,) * 11, ("machine", 1, ()), {(1,): 1},
+]
 BAD_INTEGER = (InvalidInteger, NO_INTEGERS)
 BAD_DIVISOR = (InvalidInteger, NO_INTEGERS + [0])
 BAD_RATIO = (InvalidRatio, NO_RATIOS)
 BAD_POLYNOMIAL = (InvalidPolynomial, NO_POLYNOMIALS)
 BAD_NUMBER = (InvalidNumber, NO_NUMBERS)
+BAD_MACHINE = (InvalidMachine, NO_MACHINES)
+BAD_TABLE = (InvalidTable, NO_TABLES)
 
 
-def bad_many(most):
-    """Wrong values for a many from 0 to most."""
-    return InvalidMany, NO_COUNTS + [most + 1, 10 ** 40]
+def bad_many(most, least=0):
+    """Wrong values for a many from least to most."""
+    return InvalidMany, NO_COUNTS + [least - 1, most + 1, 10 ** 40]
+
+
+def bad_place(bound):
+    """Wrong values for a place below the bound."""
+    return InvalidPlace, NO_COUNTS + [bound, bound + 1, 10 ** 40]
 
 
 def bad_position(bound):
@@ -153,3 +186,108 @@ def divisor_of(numbers):
     for number in numbers:
         common = gcd(common, number)
     return common
+
+
+def real_roots(row):
+    """The unlike real roots of a polynomial of degree 1 or more as floats, the greatest one first."""
+    if len(row) == 2:
+        return [-row[0] / row[1]]
+    # Between two roots of the slope there is one root at most.
+    bound = 2 + max([abs(number) for number in row]) // abs(row[-1])
+    turns = real_roots(tuple([power * number for power, number in enumerate(row) if power]))
+    ends = [bound] + [Fraction(turn) for turn in turns] + [-bound]
+    found = []
+    for high, low in zip(ends, ends[1:]):
+        above, below = worth(row, high), worth(row, low)
+        if above * below < 0:
+            for _ in range(70):
+                middle = Fraction(high + low) / 2
+                if worth(row, middle) * above > 0:
+                    high = middle
+                else:
+                    low = middle
+            found.append(float(high))
+    return found
+
+
+def machine_with(places, roads):
+    """The machine of places and of a dict of many by (one, other, length)."""
+    return "machine", places, tuple(sorted([road + (many,) for road, many in roads.items()]))
+
+
+def some_machine(chance, places, roads, length=3, many=3):
+    """A machine with at most so many roads, of at most this length and many."""
+    found = {}
+    for _ in range(roads):
+        road = chance.randrange(places), chance.randrange(places), chance.randint(1, length)
+        found[road] = chance.randint(1, many)
+    return machine_with(places, found)
+
+
+def some_together(chance, places, roads, length=3, many=3):
+    """A machine that hangs together: a round through all places, and further roads."""
+    found = {(place, (place + 1) % places, chance.randint(1, length)): chance.randint(1, many)
+             for place in range(places)}
+    _, _, more = some_machine(chance, places, roads, length, many)
+    for one, other, taken, often in more:
+        found[(one, other, taken)] = often
+    return machine_with(places, found)
+
+
+def plain_rounds(machine):
+    """The rounds in which no place comes twice: tuples (places, length, many), begun at the least place."""
+    _, places, roads = machine
+    found = []
+
+    def go_on(way, length, many):
+        for one, other, taken, often in roads:
+            if one == way[-1]:
+                if other == way[0]:
+                    found.append((tuple(way), length + taken, many * often))
+                elif other > way[0] and other not in way:
+                    go_on(way + [other], length + taken, many * often)
+
+    for start in range(places):
+        go_on([start], 0, 1)
+    return found
+
+
+def plain_ways(machine, place, length):
+    """How many ways of the length begin at the place, by the place where they end, each way followed."""
+    counts = [0] * machine[1]
+    if length == 0:
+        counts[place] = 1
+        return counts
+    for one, other, taken, many in machine[2]:
+        if one == place and taken <= length:
+            for end, often in enumerate(plain_ways(machine, other, length - taken)):
+                counts[end] += many * often
+    return counts
+
+
+def greatest_lengths(machine):
+    """The sum over all places of the greatest length of a road from it."""
+    return sum([max([length for one, _, length, _ in machine[2] if one == place], default=0)
+                for place in range(machine[1])])
+
+
+def lots_without(rounds):
+    """All lots of the rounds in which no place comes twice."""
+    if not rounds:
+        return [[]]
+    first = rounds[0]
+    apart = [told for told in rounds[1:] if not [place for place in told[0] if place in first[0]]]
+    return lots_without(rounds[1:]) + [[first] + lot for lot in lots_without(apart)]
+
+
+def plain_polynomial(machine):
+    """The sum over all lots of rounds in which no place comes twice."""
+    total = {}
+    for lot in lots_without(plain_rounds(machine)):
+        factor, power = 1, 0
+        for _, length, many in lot:
+            factor *= -many
+            power += length
+        total[power] = total.get(power, 0) + factor
+    top = max([power for power, number in total.items() if number])
+    return tuple([total.get(power, 0) for power in range(top + 1)])

@@ -5,6 +5,9 @@ import unittest
 from importlib import import_module
 from inspect import signature
 
+GOLD = ("number", (-1, -1, 1), 0)
+SPLIT = ("machine", 3, ((0, 1, 1, 2), (0, 2, 2, 1), (1, 0, 3, 1), (2, 0, 2, 1)))
+
 # Each function with the names of its parameters, by its file, and a call with what it returns.
 CALLS = {
     "basics": [
@@ -55,6 +58,37 @@ CALLS = {
     ],
     "numbers": [
         ("is_number", ["value"], [("number", (1, -3, 1), 1)], True),
+        ("number_of", ["polynomial", "low", "high"], [(1, -3, 1), (0, 1), (1, 1)], ("number", (1, -3, 1), 1)),
+        ("number_floor", ["number", "many"], [GOLD, 3], 12),
+        ("number_compared", ["number", "other"], [GOLD, ("number", (-2, 0, 1), 0)], 1),
+        ("number_beside", ["number", "ratio"], [GOLD, (13, 8)], -1),
+        ("mix_sign", ["number", "mix"], [GOLD, ((-2, 1), 1)], -1),
+        ("mix_floor", ["number", "mix", "many"], [GOLD, ((-2, 1), 1), 2], -2),
+    ],
+    "numbersums": [
+        ("number_sum", ["number", "other"], [GOLD, ("number", (-2, 1), 0)], ("number", (5, -5, 1), 0)),
+        ("number_product", ["number", "other"], [GOLD, GOLD], ("number", (1, -3, 1), 0)),
+        ("number_power", ["number", "many"], [GOLD, 3], ("number", (-1, -4, 1), 0)),
+        ("number_root", ["number", "many"], [GOLD, 2], ("number", (-1, 0, -1, 0, 1), 0)),
+    ],
+    "machines": [
+        ("is_machine", ["value"], [SPLIT], True),
+        ("ways", ["machine", "one", "many"], [SPLIT, 1, 4], 2),
+        ("ways_between", ["machine", "one", "other", "many"], [SPLIT, 1, 2, 5], 1),
+        ("is_together", ["machine"], [SPLIT], True),
+        ("beat", ["machine"], [SPLIT], 4),
+        ("hubs", ["machine"], [SPLIT], [0]),
+    ],
+    "tables": [
+        ("is_table", ["value"], [((1,),)], True),
+        ("table_of", ["machine"], [("machine", 1, ((0, 0, 2, 2),))], ((0, 2), (1, 0))),
+        ("machine_of", ["table"], [((3,),)], ("machine", 1, ((0, 0, 1, 3),))),
+    ],
+    "rounds": [
+        ("round_polynomial", ["machine"], [SPLIT], (1, 0, 0, 0, -3)),
+    ],
+    "paces": [
+        ("pace", ["machine"], [SPLIT], ("number", (-3, 0, 0, 0, 1), 0)),
     ],
     "mixes": [
         ("is_mix", ["number", "value"], [("number", (-1, -1, 1), 0), ((1, 0), 1)], True),

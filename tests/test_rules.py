@@ -36,6 +36,14 @@ def files():
 TREES = {name[:-3]: ast.parse(text) for name, text in files().items()}
 
 
+def plain_value(node):
+    """What an expression at module level is: a literal, or one reckoned of literals."""
+    for part in ast.walk(node):
+        if not isinstance(part, (ast.Constant, ast.Tuple, ast.BinOp, ast.Pow, ast.Mult, ast.UnaryOp, ast.USub, ast.Load)):
+            raise ValueError(ast.dump(part))
+    return eval(compile(ast.Expression(node), "plain", "eval"), {})
+
+
 def bound_at_top(tree):
     """The names that a file binds at its module level."""
     names = []
@@ -84,7 +92,7 @@ class Rules(unittest.TestCase):
                 allowed = (ast.ImportFrom, ast.FunctionDef, ast.ClassDef, ast.Assign)
                 self.assertIsInstance(node, allowed, name)
                 if isinstance(node, ast.Assign):
-                    ast.literal_eval(node.value)
+                    self.assertIsInstance(plain_value(node.value), (int, str, tuple), name)
             names = bound_at_top(tree)
             self.assertEqual(len(names), len(set(names)), name)
 
@@ -101,8 +109,10 @@ class Rules(unittest.TestCase):
                     else:
                         file = node.module.split(".")[1]
                         seen[name].append(file)
-                        defined = [made.name for made in TREES[file].body if hasattr(made, "name")]
-                        self.assertIn(one.name, defined, (name, file))
+                        brought = [more for made in TREES[file].body if isinstance(made, ast.ImportFrom)
+                                   for more in bound_at_top_of(made)]
+                        self.assertIn(one.name, bound_at_top(TREES[file]), (name, file))
+                        self.assertNotIn(one.name, brought, (name, file))
         while seen:
             free = [name for name in seen if not [file for file in seen[name] if file in seen]]
             self.assertNotEqual(free, [], "files import from each other")

@@ -5,7 +5,7 @@ from whichpaces.checks import check_many
 from whichpaces.errors import InvalidPosition, IsNought
 from whichpaces.polynomials import check_polynomial
 from whichpaces.ratios import check_ratio, ratio_compared
-from whichpaces.sturm import floor_of_root, roots_above, roots_from, roots_in_all, sturm_row
+from whichpaces.sturm import floor_of_root, roots_above, roots_between, roots_in_all, sturm_row
 
 MOST_PLACES = 400
 
@@ -31,8 +31,7 @@ def count_between(polynomial, low, high):
     check_not_nought(polynomial)
     if ratio_compared(low, high) != -1:
         return 0
-    rows = sturm_row(polynomial)
-    return roots_above(rows, low[0], low[1]) - roots_from(rows, high[0], high[1])
+    return roots_between(sturm_row(polynomial), low, high)
 
 
 def count_above(polynomial, ratio):

@@ -50,6 +50,11 @@ def roots_from(rows, number, under):
     return many + 1 if is_root(rows, number, under) else many
 
 
+def roots_between(rows, low, high):
+    """How many unlike real roots are above low and below high, pairs (number, under), low below high."""
+    return roots_above(rows, low[0], low[1]) - roots_from(rows, high[0], high[1])
+
+
 def root_bound(row):
     """An integer that is greater than the size of each root."""
     return 2 + max([abs(number) for number in row]) // abs(row[-1])
