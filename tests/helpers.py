@@ -4,7 +4,7 @@ import copy
 from fractions import Fraction
 from math import gcd
 
-from whichpaces.errors import InvalidInteger, InvalidMachine, InvalidMany, InvalidMix, InvalidNumber
+from whichpaces.errors import InvalidCone, InvalidInteger, InvalidMachine, InvalidMany, InvalidMix, InvalidNumber
 from whichpaces.errors import InvalidPlace, InvalidPolynomial, InvalidPosition, InvalidRatio, InvalidRow, InvalidTable
 
 NO_INTEGERS = [True, False, None, "3", "", b"3", (3,), [3], {}, {3: 3}, int, object()]
@@ -291,3 +291,39 @@ def plain_polynomial(machine):
         total[power] = total.get(power, 0) + factor
     top = max([power for power, number in total.items() if number])
     return tuple([total.get(power, 0) for power in range(top + 1)])
+
+
+def all_roots(row):
+    """The roots of a monic polynomial without double ones as complex floats, each once."""
+    bound = 1 + max([abs(number) for number in row])
+    roots = [bound ** (1 / (len(row) - 1)) * (0.4 + 0.9j) ** place for place in range(1, len(row))]
+    for _ in range(500):
+        moved = []
+        for place, root in enumerate(roots):
+            under = 1
+            for other in roots[:place] + roots[place + 1:]:
+                under *= root - other
+            moved.append(root - worth(row, root) / under)
+        roots = moved
+    return roots
+
+
+def bad_told_row(degree):
+    """Wrong values for a row of a number of the degree: a tuple of INTEGERS."""
+    error, wrong = bad_row(degree)
+    return error, wrong + [[1] * degree]
+
+
+def bad_cone(cone):
+    """Wrong values for a cone of a number, made of a right one."""
+    row = cone[0]
+    more = [tuple([-number for number in row])] + list(cone[1:])
+    wrong = [None, True, 1, "cone", (), [], {}, object(), list(cone), cone + cone[:1], cone[1:], (row,) + cone]
+    wrong += [(list(row),) + cone[1:], (row + (0,),) + cone[1:], (row[1:],) + cone[1:], (None,) + cone[1:]]
+    wrong += [tuple(more), (tuple([2 * number for number in row]),) + cone[1:], ((0,) * len(row),) + cone[1:]]
+    wrong += [cone[:-1] + (("1",) * len(row),), cone[:-1] + ((None,) * len(row),), cone[:-1] + (5,)]
+    wrong += [tuple([tuple([bool(number) if number == 1 else number for number in line]) for line in cone])] \
+        if any([1 in line for line in cone]) else []
+    if len(cone) > 1:
+        wrong += [(row,) * len(cone), cone[:-1] + (row,)]
+    return InvalidCone, wrong

@@ -6,6 +6,7 @@ from importlib import import_module
 from inspect import signature
 
 GOLD = ("number", (-1, -1, 1), 0)
+GREATER = ("number", (1, -3, 1), 0)
 SPLIT = ("machine", 3, ((0, 1, 1, 2), (0, 2, 2, 1), (1, 0, 3, 1), (2, 0, 2, 1)))
 
 # Each function with the names of its parameters, by its file, and a call with what it returns.
@@ -89,6 +90,34 @@ CALLS = {
     ],
     "paces": [
         ("pace", ["machine"], [SPLIT], ("number", (-3, 0, 0, 0, 1), 0)),
+    ],
+    "weights": [
+        ("weights", ["machine", "number"], [SPLIT, GOLD], None),
+        ("is_weights", ["machine", "number", "value"], [("machine", 1, ((0, 0, 1, 1), (0, 0, 2, 1))), GOLD, (((0, 1), 3),)],
+         True),
+    ],
+    "cones": [
+        ("direction", ["number"], [GREATER], [((-3, 1), 1), ((1, 0), 1)]),
+        ("is_cone", ["number", "value"], [GREATER, ((0, 1), (-1, 1))], True),
+        ("cone_parts", ["number", "cone"], [GREATER, ((0, 1), (-1, 1))], [((-2, 1), 1), ((3, -1), 1)]),
+        ("first_cone", ["number"], [GREATER], ((-1, 0), (0, 1))),
+        ("cut_cone", ["number", "cone"], [GREATER, ((-1, 0), (0, 1))], ((0, 1), (-1, 1))),
+        ("rows_above", ["number", "cone"], [GREATER, ((-1, 0), (0, 1))], [1]),
+        ("good_cone", ["number"], [GREATER], ((0, 1), (-1, 1))),
+    ],
+    "entering": [
+        ("coordinates", ["number", "cone", "row"], [GREATER, ((0, 1), (-1, 1)), (-1, 3)], [2, 1]),
+        ("led", ["number", "row", "many"], [GREATER, (0, 1), 1], (-1, 3)),
+        ("entering", ["number", "cone", "position"], [GREATER, ((0, 1), (-1, 1)), 1], 1),
+    ],
+    "dominance": [
+        ("common_beat", ["number"], [("number", (-2, 0, 1), 0)], 2),
+        ("standing", ["number"], [("number", (-2, 0, 1), 0)], "beats"),
+        ("ring_for", ["number"], [("number", (2, -4, 1), 1)], (75, 128)),
+    ],
+    "making": [
+        ("machine_for", ["number"], [("number", (-7, 1), 0)], ("machine", 1, ((0, 0, 1, 7),))),
+        ("beatless_machine", ["number"], [("number", (-7, 1), 0)], ("machine", 1, ((0, 0, 1, 7),))),
     ],
     "mixes": [
         ("is_mix", ["number", "value"], [("number", (-1, -1, 1), 0), ((1, 0), 1)], True),

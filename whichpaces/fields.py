@@ -7,6 +7,7 @@ of the least polynomial tells. Nothing is refused here.
 from math import gcd
 
 from whichpaces.coefficients import content, divided, multiplied, trimmed
+from whichpaces.equations import solved
 
 
 def mix_of(row, under):
@@ -48,40 +49,14 @@ def mix_product(least, mix, other):
     return mix_of(row_product(least, mix[0], other[0]), mix[1] * other[1])
 
 
-def with_pivot_ahead(rows, place):
-    """The rows, those from the place on begun with one that is not 0 at the place."""
-    found = place
-    while rows[found][place] == 0:
-        found += 1
-    return rows[:place] + [rows[found]] + rows[place:found] + rows[found + 1:]
-
-
-def solved(rows):
-    """The answer, (numbers, under), of so many equations, each with its sum behind it.
-
-    There is just one answer. Each division leaves no rest.
-    """
-    last = 1
-    many = len(rows)
-    for place in range(many):
-        rows = with_pivot_ahead(rows, place)
-        lead = rows[place]
-        pivot = lead[place]
-        for at in range(many):
-            if at != place:
-                factor = rows[at][place]
-                rows[at] = [(pivot * number - factor * top) // last for number, top in zip(rows[at], lead)]
-        last = pivot
-    return [row[-1] for row in rows], last
-
-
 def quotient_row(least, row, other):
     """The answer, (numbers, under), by which the other row, not 0, is multiplied to the row."""
     columns = [other]
     for _ in range(len(least) - 2):
         columns.append(led_once(least, columns[-1]))
     rows = [[column[place] for column in columns] + [number] for place, number in enumerate(row)]
-    return solved(rows)
+    answers, under = solved(rows)
+    return [answer[0] for answer in answers], under
 
 
 def mix_quotient(least, mix, other):

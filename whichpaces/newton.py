@@ -41,8 +41,9 @@ def sums_of_pairs(row, other):
 def products_of_pairs(row, other):
     """The monic polynomial whose roots are the products of a root of each."""
     degree = (len(row) - 1) * (len(other) - 1)
-    pairs = zip(power_sums(row, degree), power_sums(other, degree))
-    return monic_of([here * there for here, there in pairs])
+    here = power_sums(row, degree)
+    there = power_sums(other, degree)
+    return monic_of([one * two for one, two in zip(here, there)])
 
 
 def powers_of_roots(row, many):
