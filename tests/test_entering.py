@@ -122,6 +122,11 @@ class Entering(unittest.TestCase):
         check_state(self, NotAbove, entering, GOLDEN, ((-1, 0), (0, 1)), 0)
         check_state(self, NotAbove, entering, PLASTIC, ((-1, -1, 1), (1, 0, 0), (0, 1, 0)), 0)
 
+    def test_just_four_hundred(self):
+        number = ("number", (-7391, 1150, -59, 1), 0)
+        cone = ((4413, -484, 13), (5443, -597, 16), (5221, -572, 16))
+        check_call(self, entering, (number, cone, 1), 400)
+
     def test_too_late(self):
         number = ("number", (3243, -1764, 354, -31, 1), 0)
         cone = good_cone(number)

@@ -156,6 +156,19 @@ class Limits(unittest.TestCase):
             self.assertEqual(told is None, least == (-9263, 1323, -63, 1))
             check_state(self, NoMachine, beatless_machine, number)
 
+    def test_just_about_four_hundred_by_the_common_beat(self):
+        # The number to the power 2 has roads of the lengths 196, 198 and 201.
+        for least, most in [((-7856, 1193, -60, 1), 392), ((-5416, 931, -53, 1), 396), ((-6879, 1084, -57, 1), None)]:
+            self.assertEqual(standing(("number", least, 0)), "alone")
+            number = ("number", (least[0], 0, least[1], 0, least[2], 0, 1), 0)
+            if most is None:
+                found = check_state(self, TooMany, machine_for, number)
+                self.assertEqual((found.what, found.limit), ("lengths", 400))
+            else:
+                machine = machine_for(number)
+                self.assertEqual(max([length for _, _, length, _ in machine[2]]), most)
+                self.assertIs(is_weights(machine, number, weights(machine, number)), True)
+
     def test_just_four_hundred_cuts(self):
         for least in [(6114, -340, -18, 1), (7391, -341, -22, 1)]:
             self.assertIn(self.check_let(("number", least, 0), machine_for), [None, "lengths", "figures"])

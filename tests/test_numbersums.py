@@ -128,6 +128,17 @@ class Told(unittest.TestCase):
         one, two = ("number", (2, -4, 1), 1), ("number", (1, -3, 1), 1)
         check_call(self, number_sum, (one, two), ("number", self.plain_sum(), 3))
 
+    def test_neighbours_that_differ_little(self):
+        # Both roots are near 1 / 40, near 1 / 70, and alike for 16 places.
+        for position in [1, 2]:
+            near = ("number", (-2, 160, -3200, 0, 1), position)
+            check_call(self, number_sum, (near, whole(1)), ("number", (-3361, 6556, -3194, -4, 1), position))
+            near = ("number", (-2, 280, -9800, 0, 1), position)
+            for function in [number_power, number_root]:
+                check_call(self, function, (near, 1), near)
+            check_call(self, number_product, (near, whole(1)), near)
+            check_call(self, number_product, (whole(1), near), near)
+
     def plain_sum(self):
         """The polynomial of all sums of 2 + s, s s = 2, and 1.5 + r, r r = 5 / 4: u = t - 3.5."""
         # u ** 4 - 2 (2 + 5 / 4) u ** 2 + (2 - 5 / 4) ** 2, told in t.

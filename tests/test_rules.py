@@ -153,6 +153,9 @@ class Rules(unittest.TestCase):
                     self.assertNotIsInstance(node.op, (ast.Div, ast.MatMult), name)
                     if isinstance(node.op, ast.Pow):
                         self.assertIsInstance(node.right, ast.Constant, name)
+                if isinstance(node, ast.Call):
+                    for star in [part for part in node.args if isinstance(part, ast.Starred)]:
+                        self.assertIsInstance(star.value, ast.Name, name)
                 self.assertNotIsInstance(node, (ast.Set, ast.SetComp, ast.Lambda, ast.JoinedStr, ast.Global), name)
                 if isinstance(node, ast.Constant):
                     self.assertNotIsInstance(node.value, (float, complex, bytes), name)

@@ -7,6 +7,7 @@ from helpers import BAD_MACHINE, BAD_NUMBER, NO_MACHINES, check_call, check_stat
 from helpers import machine_with, some_together
 
 from whichpaces.errors import InvalidMachine, InvalidNumber, NotTogether, TooMany
+from whichpaces.lightening import lightened
 from whichpaces.mixes import is_mix, mix_made, mix_minus, mix_over, mix_plus, mix_times, power_mix
 from whichpaces.numbers import is_number, mix_sign
 from whichpaces.paces import pace
@@ -135,6 +136,17 @@ class Found(unittest.TestCase):
         check_call(self, weights, (machine, ("number", (-98, 1), 0)), None)
         check_call(self, weights, (machine, ("number", (-100, 1), 0)), None)
         check_call(self, is_weights, (machine, number, (((1,), 1), ((99 ** 400,), 1))), True)
+
+    def test_too_many_figures_in_any_proportion(self):
+        # The proportion stays, and the looking for less figures ends.
+        least = (-99, 1)
+        told = lightened(least, [((1,), 1), ((99 ** 900,), 1)])
+        self.assertEqual(told[1][0][0] * told[0][1], 99 ** 900 * told[0][0][0] * told[1][1])
+        self.assertLess(max(told[1][0][0], told[0][1]), 99 ** 460)
+        for number in [GREATER, ROOT, GOLD]:
+            long = [power_mix(number, 0), mix_made(number, power_mix(number, 400)[0], 10 ** 399 * 7)]
+            told = lightened(number[1], long)
+            self.assertEqual(mix_over(number, told[1], told[0]), mix_over(number, long[1], long[0]))
 
     def test_of_twelve_places(self):
         ring = {(place, (place + 1) % 12, 1): 1 + place % 3 for place in range(12)}

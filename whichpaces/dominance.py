@@ -15,7 +15,7 @@ def beat_of(least):
     return content([power for power, number in enumerate(least) if number])
 
 
-def is_least_of_all_but_one(least, low, under):
+def are_all_but_one_within(least, low, under):
     """Whether all roots but one lie within the ring of low / under."""
     if low == 0:
         return False
@@ -32,7 +32,7 @@ def ring_of(least, position):
     rows = sturm_row(least)
     places = FIRST_PLACES
     low = floor_of_root(rows, position, places)
-    while not is_least_of_all_but_one(least, low, 1 << places):
+    while not are_all_but_one_within(least, low, 1 << places):
         if reaches(least, low + 1, 1 << places):
             return low + 1, 1 << places
         places *= 2

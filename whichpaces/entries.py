@@ -12,7 +12,7 @@ def entry(least, inverse, row, rest):
     """The tuple (length, coordinates) at which the row enters the cone with this inverse; None if it is too late.
 
     The least length from 1 on at which all coordinates are above 0, and which
-    has no divisor above 1 in common with the rest.
+    has no divisor above 1 in common with the rest (0 is divided by all).
     """
     for length in range(1, MOST_LENGTH + 1):
         row = led_once(least, row)

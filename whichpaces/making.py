@@ -53,8 +53,7 @@ def beatless_machine(number):
         raise NoMachine()
     cone = good_cone(number)
     inverse = inverse_of(cone)
-    entries = [entry_of(number[1], inverse, row, 1) for row in cone]
-    lengths = [length for length, _ in entries]
-    if content(lengths) > 1:
-        entries[0] = entry_of(number[1], inverse, cone[0], content(lengths[1:]))
-    return machine_by(entries, 1)
+    others = [entry_of(number[1], inverse, row, 1) for row in cone[1:]]
+    # The first row alone is led on, as far as it takes to leave no common divisor.
+    first = entry_of(number[1], inverse, cone[0], content([length for length, _ in others]))
+    return machine_by([first] + others, 1)
