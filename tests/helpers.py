@@ -5,7 +5,8 @@ from fractions import Fraction
 from math import gcd
 
 from whichpaces.errors import InvalidCone, InvalidInteger, InvalidMachine, InvalidMany, InvalidMix, InvalidNumber
-from whichpaces.errors import InvalidPlace, InvalidPolynomial, InvalidPosition, InvalidRatio, InvalidRow, InvalidTable
+from whichpaces.errors import InvalidPlace, InvalidPolynomial, InvalidPosition, InvalidRatio, InvalidRounds, InvalidRow
+from whichpaces.errors import InvalidTable
 
 NO_INTEGERS = [True, False, None, "3", "", b"3", (3,), [3], {}, {3: 3}, int, object()]
 NO_COUNTS = NO_INTEGERS + [-1, -10 ** 40]
@@ -59,6 +60,15 @@ NO_TABLES = [
     (1,), (1, 1), ("1",), ("12", "34"), ({1: 1},), ((1, 1), None), ((0,) * 13,) * 13, ((0,) * 12,) * 13,
     ((0,) * 13,) * 12, ((0,) * 12,) * 11, ("machine", 1, ()), {(1,): 1},
 ]
+NO_ROUNDS = [
+    None, True, False, 0, 5, "rounds", b"1", (), [], {}, object(), int, (1, 1), ((1,),), ((1, 1, 1),), ((),), [(1, 1)],
+    ([1, 1],), ((1, 1), [2, 1]), ((2, 1), (1, 1)), ((1, 1), (1, 1)), ((1, 1), (1, 2)), ((1, 2), (2, 1), (2, 2)),
+    ((1, 1), (3, 1), (2, 1)), ((0, 1),), ((-1, 1),), ((401, 1),), ((1, 1), (401, 1)), ((10 ** 30, 1),), ((1, 0),), ((1, -1),),
+    ((1, 1), (2, 0)), ((1, (10 ** 50) ** 8),), ((1, 1), (2, (10 ** 50) ** 8)), ((True, 1),), ((1, True),), ((1, False),), ((False, 1),),
+    ((1, 1), (2, True)), (("1", 1),), ((1, "1"),), ((None, 1),), ((1, None),), (((1,), 1),), ((1, (1,)),), ((1, 1), None),
+    ((1, 1), 2), ("11",), ({1: 1},), {(1, 1): 1}, tuple([(length, 1) for length in range(1, 62)]), ("rounds", ((1, 1),)),
+    ("machine", 1, ((0, 0, 1, 1),)), ("hub", ((1, 1),)), (((1, 1),),),
+]
 BAD_INTEGER = (InvalidInteger, NO_INTEGERS)
 BAD_DIVISOR = (InvalidInteger, NO_INTEGERS + [0])
 BAD_RATIO = (InvalidRatio, NO_RATIOS)
@@ -66,6 +76,7 @@ BAD_POLYNOMIAL = (InvalidPolynomial, NO_POLYNOMIALS)
 BAD_NUMBER = (InvalidNumber, NO_NUMBERS)
 BAD_MACHINE = (InvalidMachine, NO_MACHINES)
 BAD_TABLE = (InvalidTable, NO_TABLES)
+BAD_ROUNDS = (InvalidRounds, NO_ROUNDS)
 
 
 def bad_many(most, least=0):

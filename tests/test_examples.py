@@ -119,6 +119,36 @@ CALLS = {
         ("machine_for", ["number"], [("number", (-7, 1), 0)], ("machine", 1, ((0, 0, 1, 7),))),
         ("beatless_machine", ["number"], [("number", (-7, 1), 0)], ("machine", 1, ((0, 0, 1, 7),))),
     ],
+    "deciding": [
+        ("is_pace", ["number"], [("number", (2, -4, 1), 1)], False),
+        ("is_beatless_pace", ["number"], [GREATER], True),
+        ("paper_of", ["number"], [("number", (-7, 1), 0)], ("machine", ("machine", 1, ((0, 0, 1, 7),)), (((1,), 1),))),
+        ("beatless_paper", ["number"], [("number", (-2, 0, 1), 0)], ("beats", 2)),
+        ("is_paper", ["number", "value"], [("number", (2, -4, 1), 1), ("ring", (1, 1))], True),
+        ("is_beatless_paper", ["number", "value"], [("number", (-2, 0, 1), 0), ("beats", 2)], True),
+    ],
+    "multipliers": [
+        ("second_roots", ["number"], [GREATER], 1),
+        ("multiplier", ["number"], [("number", (-1, 1, -2, 1), 0)], 1),
+    ],
+    "hubs": [
+        ("is_rounds", ["value"], [((1, 1), (2, 1))], True),
+        ("hub_machine", ["rounds"], [((2, 1), (3, 1))], ("machine", 1, ((0, 0, 2, 1), (0, 0, 3, 1)))),
+        ("is_hub_of", ["number", "value"], [GOLD, ((1, 1), (2, 1))], True),
+        ("hub_for", ["number"], [GOLD], ((1, 1), (2, 1))),
+        ("beatless_hub", ["number"], [GOLD], ((1, 1), (2, 1))),
+    ],
+    "hubpapers": [
+        ("hub_paper", ["number"], [GOLD], ("hub", ((1, 1), (2, 1)))),
+        ("beatless_hub_paper", ["number"], [("number", (-2, 0, 1), 0)], ("beats", 2)),
+        ("is_hub_paper", ["number", "value"], [GREATER, ("second", (0, 1), (1, 1))], True),
+        ("is_beatless_hub_paper", ["number", "value"], [("number", (-2, 0, 1), 0), ("beats", 2)], True),
+    ],
+    "between": [
+        ("paces_compared", ["table", "other"], [((3,),), ((2,),)], 1),
+        ("ratio_between", ["table", "other"], [((2,),), ((2,),)], None),
+        ("is_between", ["table", "other", "value"], [((3,),), ((2,),), (5, 2)], True),
+    ],
     "mixes": [
         ("is_mix", ["number", "value"], [("number", (-1, -1, 1), 0), ((1, 0), 1)], True),
         ("mix_made", ["number", "row", "under"], [("number", (-1, -1, 1), 0), [0, -2], -4], ((0, 1), 2)),

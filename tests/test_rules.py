@@ -11,10 +11,12 @@ BUILTINS = (
     "len range enumerate zip min max sum abs sorted reversed int str bool list tuple dict isinstance any all divmod "
     "ValueError LookupError RuntimeError ArithmeticError"
 ).split()
+DECORATORS = ["property", "staticmethod"]
 METHODS = (
     "append clear copy count endswith extend find get index insert items join keys pop remove replace reverse "
-    "setdefault split startswith strip values bit_length"
+    "setdefault split startswith strip values bit_length partition"
 ).split()
+PLAIN = (ast.Constant, ast.Tuple, ast.Dict, ast.BinOp, ast.Pow, ast.Mult, ast.Sub, ast.UnaryOp, ast.USub, ast.Load)
 # An interactive reader of Python puts _ among the builtins.
 PYTHONS_OWN = [name for name in dir(builtins) if name != "_"]
 STATEMENTS = (
@@ -39,7 +41,7 @@ TREES = {name[:-3]: ast.parse(text) for name, text in files().items()}
 def plain_value(node):
     """What an expression at module level is: a literal, or one reckoned of literals."""
     for part in ast.walk(node):
-        if not isinstance(part, (ast.Constant, ast.Tuple, ast.BinOp, ast.Pow, ast.Mult, ast.UnaryOp, ast.USub, ast.Load)):
+        if not isinstance(part, PLAIN):
             raise ValueError(ast.dump(part))
     return eval(compile(ast.Expression(node), "plain", "eval"), {})
 
@@ -82,7 +84,8 @@ class Rules(unittest.TestCase):
             for node in ast.walk(tree):
                 if isinstance(node, ast.FunctionDef):
                     self.assertLessEqual(node.end_lineno - node.lineno + 1, 40, (name, node.name))
-                    self.assertEqual(node.decorator_list, [], (name, node.name))
+                    for decorator in node.decorator_list:
+                        self.assertIn(decorator.id, DECORATORS, (name, node.name))
                     if node.name != "__init__":
                         self.assertTrue(ast.get_docstring(node), (name, node.name))
 
@@ -92,7 +95,11 @@ class Rules(unittest.TestCase):
                 allowed = (ast.ImportFrom, ast.FunctionDef, ast.ClassDef, ast.Assign)
                 self.assertIsInstance(node, allowed, name)
                 if isinstance(node, ast.Assign):
-                    self.assertIsInstance(plain_value(node.value), (int, str, tuple), name)
+                    told = plain_value(node.value)
+                    self.assertIsInstance(told, (int, str, tuple, dict), name)
+                    if isinstance(told, (tuple, dict)):
+                        inside = list(told.values()) if isinstance(told, dict) else told
+                        self.assertEqual([part for part in inside if isinstance(part, (list, dict))], [], name)
             names = bound_at_top(tree)
             self.assertEqual(len(names), len(set(names)), name)
 
@@ -130,19 +137,23 @@ class Rules(unittest.TestCase):
         for name, tree in TREES.items():
             barred = [one for node in tree.body if isinstance(node, ast.ImportFrom) for one in bound_at_top_of(node)]
             barred += [node.name for node in tree.body if isinstance(node, ast.ClassDef)] + PYTHONS_OWN
-            for node in tree.body:
+            for node in ast.walk(tree):
                 if isinstance(node, ast.FunctionDef):
                     self.assertEqual([one for one in local_names(node) if one in barred], [], name)
                     self.assertNotIn(node.name, PYTHONS_OWN)
 
     def test_only_plain_builtins_and_methods(self):
+        own = [node.name for tree in TREES.values() for head in tree.body if isinstance(head, ast.ClassDef)
+               for node in head.body if isinstance(node, ast.FunctionDef)]
+        for builtin in [(), [], {}, "", b"", 0, set()]:
+            self.assertEqual([one for one in own if one in dir(builtin) and one != "__init__"], [])
         for name, tree in TREES.items():
             top = bound_at_top(tree)
             for node in ast.walk(tree):
                 if isinstance(node, ast.Name) and node.id in PYTHONS_OWN and node.id not in top:
-                    self.assertIn(node.id, BUILTINS, name)
+                    self.assertIn(node.id, BUILTINS + DECORATORS, name)
                 if isinstance(node, ast.Call) and isinstance(node.func, ast.Attribute):
-                    self.assertIn(node.func.attr, METHODS, name)
+                    self.assertIn(node.func.attr, METHODS + own, name)
 
     def test_statements_and_signs(self):
         for name, tree in TREES.items():
@@ -156,7 +167,12 @@ class Rules(unittest.TestCase):
                 if isinstance(node, ast.Call):
                     for star in [part for part in node.args if isinstance(part, ast.Starred)]:
                         self.assertIsInstance(star.value, ast.Name, name)
-                self.assertNotIsInstance(node, (ast.Set, ast.SetComp, ast.Lambda, ast.JoinedStr, ast.Global), name)
+                if isinstance(node, ast.Dict):
+                    for key, value in zip(node.keys, node.values):
+                        self.assertTrue(key is not None or isinstance(value, ast.Name), name)
+                if isinstance(node, ast.ExceptHandler):
+                    self.assertIsNotNone(node.type, name)
+                self.assertNotIsInstance(node, (ast.Set, ast.SetComp, ast.Lambda, ast.GeneratorExp, ast.Global), name)
                 if isinstance(node, ast.Constant):
                     self.assertNotIsInstance(node.value, (float, complex, bytes), name)
 

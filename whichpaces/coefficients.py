@@ -81,6 +81,14 @@ def stretched(row, number, under):
     return tuple(total)
 
 
+def spread(row, many):
+    """The row with t ** many in the place of t."""
+    wide = [0] * ((len(row) - 1) * many + 1)
+    for power, number in enumerate(row):
+        wide[power * many] = number
+    return tuple(wide)
+
+
 def divided(row, other):
     """The quotient and the rest by another row, whose head divides each head on the way."""
     rest = list(row)

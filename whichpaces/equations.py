@@ -41,6 +41,12 @@ def inverse_of(rows):
     return [[number * under for number in row] for row in answers]
 
 
+def rows_times(rows, table):
+    """The rows, each put ahead of a table with as many lines as a row has numbers."""
+    across = list(zip(*table))
+    return [[sum([number * more for number, more in zip(row, line)]) for line in across] for row in rows]
+
+
 def led_by(row, table):
     """The row put ahead of a square table: the sums, by column, of the row times the table."""
-    return [sum([number * line[at] for number, line in zip(row, table)]) for at in range(len(table))]
+    return rows_times([row], table)[0]

@@ -98,15 +98,20 @@ def links_of(machine):
     return links
 
 
+def hangs_together(machine):
+    """Whether a MACHINE hangs together."""
+    return is_one_lot(links_of(machine))
+
+
 def is_together(machine):
     """Whether the MACHINE hangs together."""
     check_machine(machine)
-    return is_one_lot(links_of(machine))
+    return hangs_together(machine)
 
 
 def check_together(machine):
     """Refuse a MACHINE that does not hang together."""
-    if not is_one_lot(links_of(machine)):
+    if not hangs_together(machine):
         raise NotTogether()
 
 

@@ -1,6 +1,6 @@
 """MACHINES made for a NUMBER, by a good cone of it and when its rows enter."""
 
-from whichpaces.coefficients import content
+from whichpaces.coefficients import content, spread
 from whichpaces.cones import good_cone
 from whichpaces.dominance import beat_of, standing_of
 from whichpaces.entries import MOST_LENGTH, entry
@@ -32,18 +32,45 @@ def machine_by(entries, factor):
     return "machine", len(entries), tuple(roads)
 
 
-def machine_for(number):
-    """A machine that hangs together and has the NUMBER as its pace."""
-    check_number(number)
-    if standing_of(number) == "beyond":
-        raise NoMachine()
+def weights_by(cone, factor):
+    """The rows of the cone of a number's power as mixes of the number: they are weights of its machine."""
+    degree = len(cone) * factor
+    mixes = []
+    for row in cone:
+        wide = spread(row, factor)
+        mixes.append((wide + (0,) * (degree - len(wide)), 1))
+    return tuple(mixes)
+
+
+def made_for(number):
+    """A machine that hangs together and has a NUMBER that is not "beyond" as its pace, and its weights."""
     _, least, position = number
     factor = beat_of(least)
     # The number to the power of its common beat is alone.
     power = ("number", least[::factor], position)
     cone = good_cone(power)
     inverse = inverse_of(cone)
-    return machine_by([entry_of(power[1], inverse, row, 1) for row in cone], factor)
+    entries = [entry_of(power[1], inverse, row, 1) for row in cone]
+    return machine_by(entries, factor), weights_by(cone, factor)
+
+
+def beatless_made_for(number):
+    """A machine with the beat 1 that has a NUMBER that is alone as its pace, and its weights."""
+    cone = good_cone(number)
+    inverse = inverse_of(cone)
+    others = [entry_of(number[1], inverse, row, 1) for row in cone[1:]]
+    # The first row alone is led on, as far as it takes to leave no common divisor.
+    first = entry_of(number[1], inverse, cone[0], content([length for length, _ in others]))
+    return machine_by([first] + others, 1), weights_by(cone, 1)
+
+
+def machine_for(number):
+    """A machine that hangs together and has the NUMBER as its pace."""
+    check_number(number)
+    if standing_of(number) == "beyond":
+        raise NoMachine()
+    machine, _ = made_for(number)
+    return machine
 
 
 def beatless_machine(number):
@@ -51,9 +78,5 @@ def beatless_machine(number):
     check_number(number)
     if standing_of(number) != "alone":
         raise NoMachine()
-    cone = good_cone(number)
-    inverse = inverse_of(cone)
-    others = [entry_of(number[1], inverse, row, 1) for row in cone[1:]]
-    # The first row alone is led on, as far as it takes to leave no common divisor.
-    first = entry_of(number[1], inverse, cone[0], content([length for length, _ in others]))
-    return machine_by([first] + others, 1)
+    machine, _ = beatless_made_for(number)
+    return machine

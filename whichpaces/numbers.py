@@ -9,12 +9,11 @@ from whichpaces.picking import number_between
 from whichpaces.polynomials import check_monic, check_polynomial
 from whichpaces.ratios import check_ratio, ratio_compared
 from whichpaces.sights import row_floor, row_sign, sight_of
-from whichpaces.sturm import floor_of_root, roots_above, roots_between, roots_from, sturm_row
+from whichpaces.sturm import floor_of_root, roots_above, roots_between, roots_from, sturm_row, unlike_compared
 from whichpaces.told import check_number, is_told
 
 MOST_PLACES = 400
 MOST_MIX_PLACES = 200
-FIRST_PLACES = 16
 
 
 def is_number(value):
@@ -56,14 +55,7 @@ def number_compared(number, other):
     check_number(other)
     if number[1] == other[1]:
         return sign_of(other[2] - number[2])
-    places = FIRST_PLACES
-    rows = sturm_row(number[1])
-    rows_there = sturm_row(other[1])
-    apart = 0
-    while apart == 0:
-        apart = floor_of_root(rows, number[2], places) - floor_of_root(rows_there, other[2], places)
-        places *= 2
-    return sign_of(apart)
+    return unlike_compared(sturm_row(number[1]), number[2], sturm_row(other[1]), other[2])
 
 
 def number_beside(number, ratio):

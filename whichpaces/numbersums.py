@@ -1,7 +1,7 @@
 """Sums, products, powers and roots of NUMBERS."""
 
 from whichpaces.checks import check_many
-from whichpaces.coefficients import single
+from whichpaces.coefficients import single, spread
 from whichpaces.errors import TooMany
 from whichpaces.factors import factors_of
 from whichpaces.newton import powers_of_roots, products_of_pairs, sums_of_pairs
@@ -87,14 +87,6 @@ def number_power(number, many):
     # Its roots are those of one least polynomial, each as often.
     least = single(powers_of_roots(number[1], many))
     return found_by(power_bounds, number, many, least, [least])
-
-
-def spread(row, many):
-    """The row with t ** many in the place of t."""
-    wide = [0] * ((len(row) - 1) * many + 1)
-    for power, number in enumerate(row):
-        wide[power * many] = number
-    return tuple(wide)
 
 
 def number_root(number, many):

@@ -27,13 +27,18 @@ def number_between(parts, low, high):
     return "number", least, roots_from(sturm_row(least), high[0], high[1])
 
 
-def number_at(whole, parts, position):
-    """The NUMBER that is the real root at the position of the whole, which has these least parts."""
-    rows = sturm_row(whole)
+def around_root(rows, position):
+    """Two pairs (number, under) between which just one root lies, that at the position, by the Sturm row."""
     places = FIRST_PLACES
     low = floor_of_root(rows, position, places)
     # One less: the root itself may be what its floor tells.
     while roots_between(rows, (low - 1, 1 << places), (low + 1, 1 << places)) != 1:
         places *= 2
         low = floor_of_root(rows, position, places)
-    return number_between(parts, (low - 1, 1 << places), (low + 1, 1 << places))
+    return (low - 1, 1 << places), (low + 1, 1 << places)
+
+
+def number_at(whole, parts, position):
+    """The NUMBER that is the real root at the position of the whole, which has these least parts."""
+    low, high = around_root(sturm_row(whole), position)
+    return number_between(parts, low, high)

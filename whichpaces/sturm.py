@@ -7,6 +7,8 @@ rests follow, each with the other sign. What it counts are unlike roots.
 from whichpaces.coefficients import sign_of, signed_rests, single, slope, worth_times
 from whichpaces.signs import changes
 
+FIRST_PLACES = 16
+
 
 def sturm_row(polynomial):
     """The Sturm row of a polynomial that is not nought."""
@@ -103,3 +105,13 @@ def floor_of_root(rows, position, many):
         elif roots_from(rows, low + 1, under) > position:
             low += 1
     return low
+
+
+def unlike_compared(rows, position, rows_there, position_there):
+    """1 if the first root is the greater one, -1 if the other one is: they are not the same."""
+    places = FIRST_PLACES
+    apart = 0
+    while apart == 0:
+        apart = floor_of_root(rows, position, places) - floor_of_root(rows_there, position_there, places)
+        places *= 2
+    return sign_of(apart)

@@ -27,6 +27,11 @@ def check_table(value):
         raise InvalidTable(value)
 
 
+def table_links(table):
+    """For each place of a TABLE the places to which it leads."""
+    return [[other for other, many in enumerate(row) if many] for row in table]
+
+
 def check_roads(machine):
     """Refuse a MACHINE whose table would be too great."""
     if machine[1] + sum([road[2] - 1 for road in machine[2]]) > MOST_PLACES:

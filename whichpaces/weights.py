@@ -56,11 +56,16 @@ def are_even(machine, least, value):
     return all([is_even_at(machine, place, least, rows) for place in range(machine[1])])
 
 
+def are_weights(machine, number, value):
+    """Whether the value is WEIGHTS of a MACHINE that hangs together for a NUMBER."""
+    if not isinstance(value, tuple) or len(value) != machine[1]:
+        return False
+    return are_mixes_above(number, value) and are_even(machine, number[1], value)
+
+
 def is_weights(machine, number, value):
     """Whether the value is WEIGHTS of the MACHINE for the NUMBER."""
     check_machine(machine)
     check_number(number)
     check_together(machine)
-    if not isinstance(value, tuple) or len(value) != machine[1]:
-        return False
-    return are_mixes_above(number, value) and are_even(machine, number[1], value)
+    return are_weights(machine, number, value)
