@@ -1,6 +1,7 @@
 """Tables for the tests of two machines, and plain looks at their paces."""
 
 from fractions import Fraction
+from math import gcd
 
 from helpers import worth
 
@@ -66,3 +67,15 @@ def plain_pace(table, bits=200):
             break
         found = closer
     return found * 2 ** bits // 1
+
+
+def table_beat(table):
+    """The greatest number that divides the lengths of all rounds: those without a place twice are enough."""
+    places = range(len(table))
+    common = 0
+    found = [[bool(many) for many in row] for row in table]
+    for length in range(1, len(table) + 1):
+        if any([found[place][place] for place in places]):
+            common = gcd(common, length)
+        found = [[any([found[one][mid] and table[mid][other] for mid in places]) for other in places] for one in places]
+    return common

@@ -144,6 +144,47 @@ CALLS = {
         ("is_hub_paper", ["number", "value"], [GREATER, ("second", (0, 1), (1, 1))], True),
         ("is_beatless_hub_paper", ["number", "value"], [("number", (-2, 0, 1), 0), ("beats", 2)], True),
     ],
+    "along": [
+        ("along", ["table", "other"], [((2,),), ((3,),)], None),
+        ("is_along", ["table", "other", "value"], [((2, 1), (1, 1)), ((1, 1), (1, 2)), ((1, 2), (1, 1))], True),
+        ("not_behind", ["table", "other"], [((3,),), ((2,),)], None),
+        ("is_not_behind", ["table", "other", "value"], [((1, 1), (1, 0)), ((2,),), ((1,), (1,))], True),
+    ],
+    "builds": [
+        ("side_by_side", ["table", "other"], [((1, 1), (1, 0)), ((2,),)], ((2, 2), (2, 0))),
+        ("in_turn", ["table", "other"], [((1, 1), (1, 0)), ((2,),)], ((3, 1), (1, 2))),
+        ("many_ties", ["table", "many"], [((1, 1), (1, 0)), 3], ((3, 2), (2, 1))),
+        ("turned_about", ["machine"], [SPLIT], ("machine", 3, ((0, 1, 3, 1), (0, 2, 2, 1), (1, 0, 1, 2), (2, 0, 2, 1)))),
+        ("lengthened", ["machine", "many"], [("machine", 1, ((0, 0, 2, 1),)), 3], ("machine", 1, ((0, 0, 6, 1),))),
+        ("hubs_joined", ["rounds", "other"], [((1, 1), (2, 1)), ((2, 2),)], ((1, 1), (2, 3))),
+        ("lots", ["table"], [((1, 1), (0, 1))], [[0], [1]]),
+        ("lot_alone", ["table", "position"], [((1, 0, 1), (0, 5, 0), (2, 0, 0)), 0], ((1, 1), (2, 0))),
+    ],
+    "texts": [
+        ("has_paper_form", ["value"], [("beats", 1)], False),
+        ("number_text", ["number"], [GOLD], "number -1 -1 1 at 0\n"),
+        ("machine_text", ["machine"], [("machine", 1, ((0, 0, 1, 7),))], "machine 1\nroad 0 0 1 7\n"),
+        ("table_text", ["table"], [((1, 1), (1, 0))], "table 2\nrow 1 1\nrow 1 0\n"),
+        ("rounds_text", ["rounds"], [((2, 1),)], "rounds\nround 2 1\n"),
+        ("paper_text", ["paper"], [("second", (0, 1), (1, 2))], "paper second 0 1/2\n"),
+    ],
+    "readers": [
+        ("read_number", ["text"], ["number -1 -1 1 at 0"], GOLD),
+        ("read_machine", ["text"], ["machine 1"], ("machine", 1, ())),
+        ("read_table", ["text"], ["table 1\nrow 2\n"], ((2,),)),
+        ("read_rounds", ["text"], ["rounds\nround 2 1"], ((2, 1),)),
+        ("read_paper", ["text"], ["paper ring 5/2"], ("ring", (5, 2))),
+    ],
+    "commands": [
+        ("is_name", ["value"], ["a1"], True),
+        ("is_question", ["value"], [("along", "a", "a")], True),
+        ("is_command", ["value"], [("undo",)], True),
+        ("is_desk_deed", ["value"], [("undo",)], False),
+        ("is_thing", ["sort", "value"], ["rounds", ((1, 1), (2, 1))], True),
+        ("answer_to", ["question", "things"], [("hub", "a"), [GOLD]], ("hub", ((1, 1), (2, 1)))),
+        ("is_answer", ["question", "things", "value"], [("along", "a", "b"), [((2,),), ((3,),)], ("between", (5, 2))], True),
+        ("statement_of", ["question", "value"], [("along", "a", "b"), ("between", (5, 2))], "no"),
+    ],
     "between": [
         ("paces_compared", ["table", "other"], [((3,),), ((2,),)], 1),
         ("ratio_between", ["table", "other"], [((2,),), ((2,),)], None),
@@ -164,10 +205,26 @@ CALLS = {
     ],
 }
 
+# The methods of a desk, with the names of their parameters, and its properties.
+METHODS = {
+    "do": ["self", "command"], "do_all": ["self", "commands"], "thing": ["self", "name"], "sort_of": ["self", "name"],
+    "name_status": ["self", "name"], "note": ["self", "label"], "statement": ["self", "label"], "note_status": ["self", "label"],
+    "again": ["commands"],
+}
+PROPERTIES = ["names", "labels", "log", "sums"]
+
+
+class Fenced(doctest.DocTestParser):
+    """Examples up to a row that ends them in a README."""
+
+    def parse(self, string, name="<string>"):
+        return super().parse(string.replace("\n```\n", "\n\n"), name)
+
 
 def load_tests(loader, tests, pattern):
     """The examples among the tests."""
     tests.addTests(doctest.DocFileSuite("interface_examples.txt"))
+    tests.addTests(doctest.DocFileSuite("../README.md", parser=Fenced()))
     return tests
 
 
@@ -179,6 +236,21 @@ class Names(unittest.TestCase):
                 function = getattr(module, name)
                 self.assertEqual(function.__module__, module.__name__)
                 self.assertEqual(list(signature(function).parameters), parameters)
+
+    def test_each_method_is_defined_in_its_class(self):
+        made = import_module("whichpaces.desk").Desk
+        self.assertEqual((made.__module__, made.__bases__), ("whichpaces.desk", (object,)))
+        for name, parameters in METHODS.items():
+            self.assertIn(name, vars(made))
+            self.assertEqual(list(signature(getattr(made, name)).parameters), parameters)
+        for name in PROPERTIES:
+            self.assertIsInstance(vars(made)[name], property)
+        self.assertIsInstance(vars(made)["again"], staticmethod)
+        self.assertEqual(list(signature(made).parameters), [])
+
+    def test_every_file_of_the_interface_is_here(self):
+        # All but the desk.
+        self.assertEqual(len(CALLS), 30)
 
     def test_arguments_by_position_and_by_name(self):
         for file, calls in CALLS.items():

@@ -205,6 +205,18 @@ class Told(unittest.TestCase):
                 self.assertEqual(found, told)
             check_state(self, NoHub, beatless_hub, number)
 
+    def test_hub_lengths_about_four_hundred(self):
+        for least, length in [((-6, 2, 1, -6, 0, 1), 399), ((-511, -8, 1, 1), 399), ((-4, 1, 8, -8, -1, 1), None), ((-3, 6, 0, -5, 0, 1), None)]:
+            found = self.check_told(hub_for, ("number", least, 0), False)
+            self.assertEqual(found if length is None else found[-1][0], "lengths" if length is None else length)
+            self.check_told(beatless_hub, ("number", least, 0), True)
+        # The number to the power 2 has the hub length 199, 200, 201.
+        for least, length in [((-1125, 31, -3, 1), 398), ((-3492, 30, -2, 1), 400), ((-3490, 30, -2, 1), 400), ((-5979, 36, -2, 1), None)]:
+            number = ("number", (least[0], 0, least[1], 0, least[2], 0, 1), 0)
+            self.assertEqual(standing(number), "beats")
+            found = self.check_told(hub_for, number, False)
+            self.assertEqual(found if length is None else found[-1][0], "lengths" if length is None else length)
+
     def test_a_common_divisor(self):
         # Rounds of x * x with all lengths doubled are rounds of x, with the beat 2.
         for number in [PLASTIC, ("number", (-1, -1, -1, 1), 0), THIRD]:

@@ -158,7 +158,8 @@ class Limits(unittest.TestCase):
 
     def test_just_about_four_hundred_by_the_common_beat(self):
         # The number to the power 2 has roads of the lengths 196, 198 and 201.
-        for least, most in [((-7856, 1193, -60, 1), 392), ((-5416, 931, -53, 1), 396), ((-6879, 1084, -57, 1), None)]:
+        for least, most in [((-7856, 1193, -60, 1), 392), ((-5416, 931, -53, 1), 396), ((-7702, 1084, -55, 1), 400),
+                            ((-6786, 832, -44, 1), 400), ((-6879, 1084, -57, 1), None), ((-9402, 1428, -67, 1), None)]:
             self.assertEqual(standing(("number", least, 0)), "alone")
             number = ("number", (least[0], 0, least[1], 0, least[2], 0, 1), 0)
             if most is None:

@@ -18,7 +18,7 @@ OF_EACH = [
     ((-4704, 769, -60, 1), 20), ((-4989, 831, -56, 1), 33), ((-6070, 892, -53, 1), 40), ((-4676, 860, -57, 1), 52),
     ((-2890, 652, -51, 1), 53), ((-4068, 829, -59, 1), 54), ((-2214, 623, -57, 1), 54), ((-2265, 595, -52, 1), 54),
 ]
-ABOVE = [(-4040, 890, -60, 1), (-4100, 847, -60, 1), (-3841, 828, -60, 1), (-1, 3, -1, -3, 1), (-1, 2, 3, -4, -5, 1)]
+ABOVE = [(-2742, 686, -57, 1), (-1394, 808, -42, 1), (-1978, 512, -45, 1), (-4040, 890, -60, 1), (-4100, 847, -60, 1), (-3841, 828, -60, 1), (-1, 3, -1, -3, 1), (-1, 2, 3, -4, -5, 1)]
 
 
 def plain_direction(number):
@@ -79,6 +79,7 @@ class Multipliers(unittest.TestCase):
             told = check_state(self, TooMany, multiplier, number)
             self.assertEqual((told.what, told.limit), ("multiplier", 54))
             self.assertIsNone(plain_multiplier(number, 54))
+        self.assertEqual([plain_multiplier(("number", least, 0), 60) for least in ABOVE[:3]], [55, 55, 56])
 
     def test_against_plain_products(self):
         seen = 0

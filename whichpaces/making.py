@@ -32,7 +32,7 @@ def machine_by(entries, factor):
     return "machine", len(entries), tuple(roads)
 
 
-def weights_by(cone, factor):
+def cone_weights(cone, factor):
     """The rows of the cone of a number's power as mixes of the number: they are weights of its machine."""
     degree = len(cone) * factor
     mixes = []
@@ -51,7 +51,7 @@ def made_for(number):
     cone = good_cone(power)
     inverse = inverse_of(cone)
     entries = [entry_of(power[1], inverse, row, 1) for row in cone]
-    return machine_by(entries, factor), weights_by(cone, factor)
+    return machine_by(entries, factor), cone_weights(cone, factor)
 
 
 def beatless_made_for(number):
@@ -61,7 +61,7 @@ def beatless_made_for(number):
     others = [entry_of(number[1], inverse, row, 1) for row in cone[1:]]
     # The first row alone is led on, as far as it takes to leave no common divisor.
     first = entry_of(number[1], inverse, cone[0], content([length for length, _ in others]))
-    return machine_by([first] + others, 1), weights_by(cone, 1)
+    return machine_by([first] + others, 1), cone_weights(cone, 1)
 
 
 def machine_for(number):
